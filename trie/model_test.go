@@ -6,6 +6,7 @@ import (
 	"testing"
 
 	"umbel/api"
+	"umbel/sample"
 	"umbel/trie"
 )
 
@@ -178,71 +179,18 @@ func checkPairs(t *testing.T, name string, l []api.Pair) {
 	}
 }
 
-// numbers tells numbers that follow no plain rule, the same ones of one seed.
-type numbers uint32
-
-func (v *numbers) below(n int) int {
-	*v = *v*1664525 + 1013904223
-	return int(*v>>8) % n
-}
-
-// text has up to most bytes, of few kinds if the choice is narrow, so that texts begin alike.
-func (v *numbers) text(least, most, choice int) string {
-	var b []byte
-	for range least + v.below(most-least+1) {
-		b = append(b, "\x00\x01\x10\x11\xff\xf0\x0f\x7f\x80"[v.below(choice)])
-	}
-	return string(b)
-}
-
-// some tells up to so many pairs that may be.
-func (v *numbers) some(most, choice int) []api.Pair {
-	values := map[string]string{}
-	for range v.below(most + 1) {
-		values[v.text(1, api.MaxKey, choice)] = v.text(0, api.MaxValue, 9)
-	}
-	return rising(values)
-}
-
-func rising(values map[string]string) []api.Pair {
-	var keys []string
-	for key := range values {
-		keys = append(keys, key)
-	}
-	slices.Sort(keys)
-	var out []api.Pair
-	for _, key := range keys {
-		out = append(out, api.Pair{Key: key, Value: values[key]})
-	}
-	return out
-}
-
-// few has keys, rising, that part in first, second and last nibbles, and begin one another.
-var few = []string{"\x00", "\x00\x00", "\x00\x01", "\x00\x10", "\x00\x10\x00", "\x01", "\x01\x23\x45\x67\x89\xab\xcd\xee", "\x01\x23\x45\x67\x89\xab\xcd\xef", "\x10", "\xf0", "\xff"}
-
-// subset has the pairs of those of few whose bit is set.
-func subset(set int) []api.Pair {
-	var l []api.Pair
-	for i, key := range few {
-		if set>>i&1 == 1 {
-			l = append(l, api.Pair{Key: key, Value: longest[:i]})
-		}
-	}
-	return l
-}
-
 // P10.1 and P10.2: all sets of a few keys: each has its trie, and no two have one.
 func TestAllSubsets(t *testing.T) {
 	var all []api.Trie
-	for set := range 1 << len(few) {
-		checkPairs(t, "a subset", subset(set))
-		nodes, _ := trie.Build(subset(set))
+	for set := range 1 << len(sample.Few()) {
+		checkPairs(t, "a subset", sample.Subset(set))
+		nodes, _ := trie.Build(sample.Subset(set))
 		all = append(all, nodes)
 	}
 	for a := range all {
 		for b := range a + 1 {
 			if trie.Same(all[a], all[b]) != (a == b) {
-				t.Errorf("Same of the tries of %q and %q is %v", subset(a), subset(b), a != b)
+				t.Errorf("Same of the tries of %q and %q is %v", sample.Subset(a), sample.Subset(b), a != b)
 			}
 		}
 	}
@@ -250,20 +198,20 @@ func TestAllSubsets(t *testing.T) {
 
 // P10.1 and P10.2: mixed pairs, few and many, of keys that begin alike and of others, there and back.
 func TestMixedPairs(t *testing.T) {
-	v := numbers(1)
+	v := sample.Numbers(1)
 	for round := range 600 {
-		checkPairs(t, "mixed pairs", v.some(1+round%40, 2+round%8))
+		checkPairs(t, "mixed pairs", v.Some(1+round%40, 2+round%8))
 	}
 	for range 4 {
-		checkPairs(t, "many pairs", v.some(300, 9))
+		checkPairs(t, "many pairs", v.Some(300, 9))
 	}
 }
 
 // P10.2: Build of Pairs is the trie, and Pairs of Build are the pairs.
 func TestThereAndBack(t *testing.T) {
-	v := numbers(2)
+	v := sample.Numbers(2)
 	for round := range 300 {
-		l := v.some(30, 2+round%8)
+		l := v.Some(30, 2+round%8)
 		nodes, ok := trie.Build(l)
 		back, is := trie.Pairs(nodes)
 		again, as := trie.Build(back)
@@ -275,23 +223,17 @@ func TestThereAndBack(t *testing.T) {
 
 // P10.2: a trie hangs on its pairs alone: other pairs, be it by one byte, have another one, and what was called ahead changes nothing.
 func TestOtherPairsHaveAnotherTrie(t *testing.T) {
-	v := numbers(3)
+	v := sample.Numbers(3)
 	for range 200 {
-		l := v.some(12, 4)
+		l := v.Some(12, 4)
 		nodes, _ := trie.Build(l)
-		for at, p := range l {
-			for _, x := range []api.Pair{{Key: p.Key, Value: p.Value + "\x00"}, {Key: p.Key[:len(p.Key)-1] + "\xee", Value: p.Value}, {Key: "\xee", Value: p.Value}} {
-				values := map[string]string{}
-				for i, p := range l {
-					if i != at {
-						values[p.Key] = p.Value
-					}
-				}
-				if rest, ok := trie.Build(rising(values)); !ok || trie.Same(rest, nodes) {
-					t.Errorf("Build(%q) without %q: %#v, %v", l, p, rest, ok)
-				}
-				values[x.Key] = x.Value
-				if other, ok := trie.Build(rising(values)); ok && trie.Same(other, nodes) {
+		for _, p := range l {
+			without := sample.Without(l, p.Key)
+			if rest, ok := trie.Build(without); !ok || trie.Same(rest, nodes) {
+				t.Errorf("Build(%q) without %q: %#v, %v", l, p, rest, ok)
+			}
+			for _, x := range sample.Near(p) {
+				if other, ok := trie.Build(sample.With(without, x)); ok && trie.Same(other, nodes) {
 					t.Errorf("Build(%q) with %q in place of %q is the same", l, x, p)
 				}
 			}
@@ -304,10 +246,10 @@ func TestOtherPairsHaveAnotherTrie(t *testing.T) {
 
 // P10.1: tries of which one field of one node is another one: they are tries of others, or none.
 func TestOneFieldChanged(t *testing.T) {
-	v := numbers(4)
+	v := sample.Numbers(4)
 	tries := []api.Trie{small(), large()}
 	for round := range 30 {
-		nodes, _ := model(v.some(12, 2+round%8))
+		nodes, _ := model(v.Some(12, 2+round%8))
 		tries = append(tries, nodes)
 	}
 	for _, nodes := range tries {
@@ -333,32 +275,14 @@ func TestOneFieldChanged(t *testing.T) {
 	}
 }
 
-// piece is a node of any Kind whose children, if any, are as far ahead as in a trie, or nearly so.
-func (v *numbers) piece(at int) api.Node {
-	path := []string{"", "\x00", "\x0a", "\x00\x01"}[v.below(4)]
-	switch v.below(4) {
-	case 0:
-		n := branch(v.below(16), at+1, v.below(16), at+2+v.below(2))
-		n.Has = v.below(3) == 0
-		return n
-	case 1:
-		return ext(path, at+1)
-	}
-	return leaf(path, v.text(0, 2, 9))
-}
-
 // P10.1: lists of nodes that were put together by chance, most of them no tries, some of them tries.
 func TestNodesByChance(t *testing.T) {
-	v := numbers(5)
+	v := sample.Numbers(5)
 	good := 0
 	for range 100000 {
-		count := 1 + v.below(6)
-		var nodes api.Trie
-		for at := range count {
-			nodes = append(nodes, v.piece(at))
-		}
+		nodes := v.Nodes(6)
 		checkNodes(t, "by chance", nodes)
-		if _, _, ok := told(nodes); ok && count > 2 {
+		if _, _, ok := told(nodes); ok && len(nodes) > 2 {
 			good++
 		}
 		if t.Failed() {

@@ -2,11 +2,11 @@ package trie_test
 
 import (
 	"slices"
-	"strings"
 	"testing"
 	"unsafe"
 
 	"umbel/api"
+	"umbel/sample"
 	"umbel/trie"
 )
 
@@ -126,36 +126,9 @@ func TestArgumentsStay(t *testing.T) {
 
 // Rule 1: each call ends, of nodes whose children are many ways to the same ones, or one far beneath the other.
 func TestCallsEnd(t *testing.T) {
-	const count = 200000
-	alike := make(api.Trie, count)
-	for i := range alike {
-		alike[i] = api.Node{Kind: api.Branch}
-		for half := range alike[i].Kids {
-			alike[i].Kids[half] = i + 1
-		}
+	for name, nodes := range sample.Tangles(200000) {
+		checkEnds(t, name, nodes)
 	}
-	checkEnds(t, "each child the next node", alike)
-	down := make(api.Trie, count)
-	for _, path := range []string{"", "\x01"} {
-		for i := range down {
-			down[i] = ext(path, i+1)
-		}
-		checkEnds(t, "one Ext beneath the other", down)
-	}
-	for i := range down {
-		down[i] = branch(i%16, i+1)
-	}
-	checkEnds(t, "one Branch beneath the other", down)
-	for i := range down {
-		down[i] = ext("\x01", count-i)
-	}
-	checkEnds(t, "forwards and backwards", down)
-	long := strings.Repeat("\x01", 1<<16)
-	for i := range down {
-		down[i] = leaf(long, long)
-	}
-	checkEnds(t, "long texts", down)
-	checkEnds(t, "none of them a node", make(api.Trie, count))
 }
 
 func checkEnds(t *testing.T, name string, nodes api.Trie) {

@@ -6,43 +6,20 @@ import (
 	"testing"
 
 	"umbel/api"
+	"umbel/sample"
 	"umbel/trie"
 )
 
-// longest has api.MaxValue bytes.
-const longest = "0123456789abcdef"
+// Nodes are written out in lists: their samples go by short names.
+const longest = sample.Longest
 
-// pairs has keys and values by turns.
-func pairs(l ...string) []api.Pair {
-	var out []api.Pair
-	for i := 0; i < len(l); i += 2 {
-		out = append(out, api.Pair{Key: l[i], Value: l[i+1]})
-	}
-	return out
-}
-
-func leaf(path, value string) api.Node {
-	return api.Node{Kind: api.Leaf, Path: path, Has: true, Value: value}
-}
-
-func ext(path string, kid int) api.Node {
-	return api.Node{Kind: api.Ext, Path: path, Kids: [16]int{kid}}
-}
-
-// branch has nibbles and children's numbers by turns.
-func branch(kids ...int) api.Node {
-	n := api.Node{Kind: api.Branch}
-	for i := 0; i < len(kids); i += 2 {
-		n.Kids[kids[i]] = kids[i+1]
-	}
-	return n
-}
-
-func valued(value string, kids ...int) api.Node {
-	n := branch(kids...)
-	n.Has, n.Value = true, value
-	return n
-}
+var (
+	pairs  = sample.Pairs
+	leaf   = sample.Leaf
+	ext    = sample.Ext
+	branch = sample.Branch
+	valued = sample.Valued
+)
 
 // repeated is so many of one nibble.
 func repeated(nibble byte, count int) string {
