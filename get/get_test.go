@@ -1,7 +1,6 @@
 package get_test
 
 import (
-	"math"
 	"slices"
 	"strings"
 	"testing"
@@ -21,6 +20,7 @@ var (
 	ext    = sample.Ext
 	branch = sample.Branch
 	valued = sample.Valued
+	large  = sample.Large
 )
 
 // has is the answer of a key that is there.
@@ -74,11 +74,6 @@ func TestExample(t *testing.T) {
 			checkWay(t, "no nodes", nodes, key, nil, api.Answer{})
 		}
 	}
-}
-
-// large is the trie of the keys 10, 11 20, 11 20 30, 11 21, 40: nodes of each Kind above and beneath others.
-func large() api.Trie {
-	return api.Trie{branch(1, 1, 4, 8), branch(0, 2, 1, 3), leaf("", "a"), ext("\x02", 4), branch(0, 5, 1, 7), valued("b", 3, 6), leaf("\x00", "e"), leaf("", "c"), leaf("\x00", "d")}
 }
 
 // P12.1: each way that there is in a trie, and each that leads no further: in a Branch without such a child, a Branch where the key ends, an Ext with another Path or a longer one, a Leaf with another, a longer, a shorter one.
@@ -199,36 +194,9 @@ func TestKeysLengths(t *testing.T) {
 
 // P12.1: nodes that are no trie: ErrArg, ahead of ErrKey (rule 3), also where what is wrong stands beside the key's way.
 func TestNoTries(t *testing.T) {
-	changed := func(at int, change func(n *api.Node)) api.Trie {
-		nodes := large()
-		change(&nodes[at])
-		return nodes
-	}
-	for _, x := range []struct {
-		name  string
-		nodes api.Trie
-	}{
-		{"a node of nothing", api.Trie{{}}},
-		{"an odd key", api.Trie{leaf("\x01", "v")}},
-		{"an empty key", api.Trie{leaf("", "v")}},
-		{"a key of nine bytes", api.Trie{leaf(strings.Repeat("\x01", 18), "v")}},
-		{"cut short", large()[:8]},
-		{"a node too many", append(large(), leaf("\x00", "f"))},
-		{"a Kind", changed(8, func(n *api.Node) { n.Kind = api.Branch })},
-		{"no Kind", changed(8, func(n *api.Node) { n.Kind = math.MinInt })},
-		{"too long a value", changed(8, func(n *api.Node) { n.Value = longest + "!" })},
-		{"a value without Has", changed(0, func(n *api.Node) { n.Value = "x" })},
-		{"a Path without end", changed(3, func(n *api.Node) { n.Path = strings.Repeat("\x02", 1<<16) })},
-		{"a Path of no nibbles", changed(8, func(n *api.Node) { n.Path = "\x10" })},
-		{"an Ext without a Path", api.Trie{ext("", 1), branch(1, 2, 2, 3), leaf("\x00", "v"), leaf("\x00", "w")}},
-		{"its own child", changed(5, func(n *api.Node) { n.Kids[3] = 5 })},
-		{"a child far away", changed(1, func(n *api.Node) { n.Kids[0] = math.MaxInt })},
-		{"a child below 0", changed(1, func(n *api.Node) { n.Kids[0] = -2 })},
-		{"a child of a Leaf", changed(2, func(n *api.Node) { n.Kids[15] = 3 })},
-		{"a round", changed(4, func(n *api.Node) { n.Kids[0] = 1 })},
-	} {
+	for name, nodes := range sample.Wrong() {
 		for _, key := range []string{"\x10", "\x11\x20", "\x11\x20\x30", "\x11\x21", "\x40", "\x99", "", "123456789", strings.Repeat("\x11", 1<<16)} {
-			checkRefused(t, x.name, x.nodes, key, api.ErrArg)
+			checkRefused(t, name, nodes, key, api.ErrArg)
 		}
 	}
 }

@@ -7,6 +7,7 @@ import (
 
 	"umbel/api"
 	"umbel/sample"
+	"umbel/trie"
 )
 
 func rising(l []api.Pair) bool {
@@ -72,6 +73,23 @@ func TestTangles(t *testing.T) {
 		names = append(names, name)
 	}
 	if len(names) < 8 {
+		t.Errorf("but %s", strings.Join(names, ", "))
+	}
+}
+
+// Large is a trie, and Wrong's nodes, each with a name of its own, are none.
+func TestTries(t *testing.T) {
+	if !trie.Good(sample.Large()) {
+		t.Error("Large is no trie")
+	}
+	var names []string
+	for name, nodes := range sample.Wrong() {
+		if trie.Good(nodes) || slices.Contains(names, name) {
+			t.Errorf("%s: a trie, or there already", name)
+		}
+		names = append(names, name)
+	}
+	if len(names) < 18 {
 		t.Errorf("but %s", strings.Join(names, ", "))
 	}
 }

@@ -29,11 +29,6 @@ func small() api.Trie {
 	return api.Trie{ext("\x01", 1), branch(2, 2, 3, 3), leaf("", "v"), leaf("", "w")}
 }
 
-// large is the trie of the keys 10, 11 20, 11 20 30, 11 21, 40: nodes of each Kind above and beneath others.
-func large() api.Trie {
-	return api.Trie{branch(1, 1, 4, 8), branch(0, 2, 1, 3), leaf("", "a"), ext("\x02", 4), branch(0, 5, 1, 7), valued("b", 3, 6), leaf("\x00", "e"), leaf("", "c"), leaf("\x00", "d")}
-}
-
 // changed is the trie with one of its nodes made another one.
 func changed(nodes api.Trie, at int, change func(n *api.Node)) api.Trie {
 	nodes = copied(nodes)

@@ -19,6 +19,7 @@ var (
 	ext    = sample.Ext
 	branch = sample.Branch
 	valued = sample.Valued
+	large  = sample.Large
 )
 
 // repeated is so many of one nibble.
