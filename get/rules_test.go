@@ -11,11 +11,6 @@ import (
 	"umbel/trie"
 )
 
-// shared has nodes with values of several bytes, of which some are alike, in a Branch and in Leaves.
-func shared(t *testing.T) api.Trie {
-	return build(t, pairs("abcd1234", "the first value", "abcd5678", "the second one", "abce", "the third", "abcefgh", "the first value", "zyx", longest))
-}
-
 // within tells whether the two texts share memory.
 func within(a, b string) bool {
 	if len(a) == 0 || len(b) == 0 {
@@ -27,12 +22,9 @@ func within(a, b string) bool {
 
 // Rules 2 and 4: a value shares no memory with the trie, the key or another answer, and hangs on no call ahead of it.
 func TestAnswersStandByThemselves(t *testing.T) {
-	nodes := shared(t)
+	nodes := build(t, sample.Worded())
 	l, _ := trie.Pairs(nodes)
-	var seen []string
-	for _, n := range nodes {
-		seen = append(seen, n.Path, n.Value)
-	}
+	seen := sample.Texts(nodes, nil)
 	for range 2 {
 		for _, p := range l {
 			a, e := get.Of(nodes, p.Key)
@@ -51,33 +43,25 @@ func TestAnswersStandByThemselves(t *testing.T) {
 
 // Rule 2: what one way is made to be, its spare room too, is not to be seen in another one.
 func TestWaysAreApart(t *testing.T) {
-	nodes := shared(t)
+	nodes := build(t, sample.Worded())
 	one, _ := get.Walk(nodes, "abcefgh")
 	other, _ := get.Walk(nodes, "abcefgh")
 	want := slices.Clone(one)
-	spoil(other)
+	sample.Spoil(other, -1)
 	again, _ := get.Walk(nodes, "abcefgh")
 	if !slices.Equal(one, want) || !slices.Equal(again, want) || len(want) < 4 {
 		t.Errorf("Walk tells %d, then %d, want %d", one, again, want)
 	}
 	none, _ := get.Walk(nil, "a")
-	spoil(none)
+	sample.Spoil(none, -1)
 	if again, e := get.Walk(nil, "a"); len(again) != 0 || e != api.OK {
 		t.Errorf("Walk of no nodes tells %d, %d", again, e)
 	}
 }
 
-// spoil makes a list, its spare room too, other numbers.
-func spoil(l []int) {
-	l = l[:cap(l)]
-	for i := range l {
-		l[i] = -1
-	}
-}
-
 // Rule 2: the nodes stay as they are, their spare room too, and are not kept.
 func TestNodesStay(t *testing.T) {
-	nodes := append(shared(t), leaf("\x01", "spare"), ext("\x02", 7))
+	nodes := append(build(t, sample.Worded()), leaf("\x01", "spare"), ext("\x02", 7))
 	want := slices.Clone(nodes)
 	given := nodes[:len(nodes)-2]
 	for _, key := range []string{"abcd1234", "abce", "a", "zyx", "", "too long a key"} {
@@ -106,13 +90,7 @@ func TestCallsEnd(t *testing.T) {
 
 // P12.1: as many pairs as make a trie far larger than a file's.
 func TestVeryManyPairs(t *testing.T) {
-	var l []api.Pair
-	for a := range 64 {
-		for b := range 256 {
-			l = append(l, api.Pair{Key: string([]byte{7, byte(a), byte(b)}), Value: string([]byte{byte(b), byte(a)})})
-		}
-	}
-	nodes := build(t, l)
+	nodes := build(t, sample.Many())
 	last := len(nodes) - 1
 	checkLast(t, nodes, "\x07\x3f\xff", last, has("\xff\x3f"))
 	checkLast(t, nodes, "\x07\x00\x00", 5, has("\x00\x00"))

@@ -20,18 +20,6 @@ func within(a, b string) bool {
 	return x < y+uintptr(len(b)) && y < x+uintptr(len(a))
 }
 
-// textsOf has all texts of nodes and pairs, but those of one byte, which may stand in memory that never changes.
-func textsOf(nodes api.Trie, l []api.Pair) []string {
-	var out []string
-	for _, n := range nodes {
-		out = append(out, n.Path, n.Value)
-	}
-	for _, p := range l {
-		out = append(out, p.Key, p.Value)
-	}
-	return slices.DeleteFunc(out, func(s string) bool { return len(s) < 2 })
-}
-
 // checkApart tells which texts share memory, those of one list among themselves too, unless it is an argument.
 func checkApart(t *testing.T, argument []string, answers ...[]string) {
 	t.Helper()
@@ -48,14 +36,12 @@ func checkApart(t *testing.T, argument []string, answers ...[]string) {
 	}
 }
 
-// shared has nodes with Exts and Leaves of long Paths, a Branch with a value, and values of several bytes.
-func shared(t *testing.T) api.Trie {
-	return build(t, pairs("abcd1234", "the first value", "abcd5678", "the second one", "abce", "the third", "abcefgh", "the first value", "zyx", longest))
-}
+// spoilt is a node that is in no trie.
+var spoilt = api.Node{Kind: 9}
 
 // Rules 2 and 4: an answer shares no memory with an argument or another answer, and hangs on no call ahead of it.
 func TestAnswersStandByThemselves(t *testing.T) {
-	nodes := shared(t)
+	nodes := build(t, sample.Worded())
 	l := pairs("abcd1235", "another value", "ab", "one of a Branch", "abcd56", "within an Ext", "zyx", "a Leaf's place", "abce", "a Branch's place", "abcd5678", "of a parted Leaf", "new", "beside all")
 	want := build(t, pairs("ab", "one of a Branch", "abcd1234", "the first value", "abcd1235", "another value", "abcd56", "within an Ext", "abcd5678", "of a parted Leaf", "abce", "a Branch's place", "abcefgh", "the first value", "new", "beside all", "zyx", "a Leaf's place"))
 	var answers [][]string
@@ -65,53 +51,45 @@ func TestAnswersStandByThemselves(t *testing.T) {
 			t.Errorf("All: %#v, %d, want %#v", all, e, want)
 		}
 		none, _ := put.All(nodes, nil)
-		answers = append(answers, textsOf(all, nil), textsOf(none, nil))
+		answers = append(answers, sample.Texts(all, nil), sample.Texts(none, nil))
 		for _, p := range l {
 			one, _ := put.Of(nodes, p.Key, p.Value)
-			answers = append(answers, textsOf(one, nil))
+			answers = append(answers, sample.Texts(one, nil))
 			first, _ := put.Of(nil, p.Key, p.Value)
-			answers = append(answers, textsOf(first, nil))
+			answers = append(answers, sample.Texts(first, nil))
 		}
 	}
-	checkApart(t, textsOf(nodes, l), answers...)
+	checkApart(t, sample.Texts(nodes, l), answers...)
 }
 
 // Rule 2: what one answer is made to be, its spare room too, is not to be seen in another one, nor in what was handed in.
 func TestListsAreApart(t *testing.T) {
-	nodes := shared(t)
+	nodes := build(t, sample.Worded())
 	for _, l := range [][]api.Pair{nil, pairs("zyx", longest), pairs("zyx", "other"), pairs("new", "v")} {
 		one, _ := put.All(nodes, l)
 		other, _ := put.All(nodes, l)
-		spoil(other)
+		sample.Spoil(other, spoilt)
 		if want := model(t, nodes, l); !slices.Equal(one, want) {
 			t.Errorf("All(%q) is %#v behind a change of another answer", l, one)
 		}
-		spoil(one)
+		sample.Spoil(one, spoilt)
 	}
-	if !slices.Equal(nodes, shared(t)) {
+	if !slices.Equal(nodes, build(t, sample.Worded())) {
 		t.Errorf("the nodes are %#v", nodes)
 	}
 	none, _ := put.All(nil, nil)
-	spoil(none)
+	sample.Spoil(none, spoilt)
 	if again, e := put.All(nil, nil); len(again) != 0 || e != api.OK {
 		t.Errorf("All of nothing tells %#v, %d", again, e)
 	}
 }
 
-// spoil makes a list, its spare room too, other nodes.
-func spoil(l api.Trie) {
-	l = l[:cap(l)]
-	for i := range l {
-		l[i] = api.Node{Kind: 9}
-	}
-}
-
 // Rule 2: what is handed in stays as it is, its spare room too, and is not kept.
 func TestArgumentsStay(t *testing.T) {
-	nodes := append(shared(t), make(api.Trie, 40)...)
+	nodes := append(build(t, sample.Worded()), make(api.Trie, 40)...)
 	nodes[len(nodes)-1] = leaf("\x01", "spare")
 	was := slices.Clone(nodes)
-	given := nodes[:len(shared(t))]
+	given := nodes[:len(build(t, sample.Worded()))]
 	l := append(pairs("b", "2", "a", "1", "abce", "3", "abcd1234", "", "abcd", "5"), pairs("spare", "room")...)
 	pairsWere := slices.Clone(l)
 	kept, _ := put.All(given, l[:5])
@@ -125,12 +103,12 @@ func TestArgumentsStay(t *testing.T) {
 		t.Errorf("the nodes are %#v, the pairs %q", nodes, l)
 	}
 	want := slices.Clone(kept)
-	spoil(nodes)
+	sample.Spoil(nodes, spoilt)
 	l[0].Value = "another"
 	if !slices.Equal(kept, want) {
 		t.Errorf("an answer is %#v, as its arguments were changed, and was %#v", kept, want)
 	}
-	if again, e := put.All(shared(t), pairsWere[:5]); !slices.Equal(again, want) || e != api.OK {
+	if again, e := put.All(build(t, sample.Worded()), pairsWere[:5]); !slices.Equal(again, want) || e != api.OK {
 		t.Errorf("All tells %#v, %d, and told %#v", again, e, want)
 	}
 }
@@ -146,12 +124,7 @@ func TestCallsEnd(t *testing.T) {
 
 // P13.1, P13.2: as many pairs as make a trie far larger than a file's, falling and rising, and as many of one key.
 func TestVeryManyPairs(t *testing.T) {
-	var l []api.Pair
-	for a := range 64 {
-		for b := range 256 {
-			l = append(l, api.Pair{Key: string([]byte{7, byte(a), byte(b)}), Value: string([]byte{byte(b), byte(a)})})
-		}
-	}
+	l := sample.Many()
 	want := build(t, l)
 	checkVeryMany(t, "rising", nil, l, want)
 	slices.Reverse(l)

@@ -88,30 +88,22 @@ func TestListsAreApart(t *testing.T) {
 	l, _ := root.All(nodes)
 	want := slices.Clone(l)
 	more, _ := root.All(nodes)
-	spoil(more)
+	sample.Spoil(more, "spoilt")
 	for i := range nodes {
 		x, _ := root.Item(nodes, i)
 		items, _ := model(pairsOf(nodes))
 		y, _ := root.Item(nodes, i)
-		spoil(y.Hashes)
+		sample.Spoil(y.Hashes, "spoilt")
 		if !sameItem(x, items[i]) {
 			t.Errorf("Item %d is %#v behind a change of another answer, want %#v", i, x, items[i])
 		}
-		spoil(x.Hashes)
+		sample.Spoil(x.Hashes, "spoilt")
 	}
 	if again, _ := root.All(nodes); !slices.Equal(l, want) || !slices.Equal(again, want) {
 		t.Errorf("All tells %x, then %x, want %x", l, again, want)
 	}
 	none, _ := root.All(nil)
-	spoil(none)
-}
-
-// spoil makes a list, its spare room too, other texts.
-func spoil(l []string) {
-	l = l[:cap(l)]
-	for i := range l {
-		l[i] = "spoilt"
-	}
+	sample.Spoil(none, "spoilt")
 }
 
 func pairsOf(nodes api.Trie) []api.Pair {

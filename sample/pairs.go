@@ -61,3 +61,14 @@ func Subset(set int) []api.Pair {
 	}
 	return l
 }
+
+// Many has pairs, rising, of which a trie is made that is far larger than a file's.
+func Many() []api.Pair {
+	var l []api.Pair
+	for a := range 64 {
+		for b := range 256 {
+			l = append(l, api.Pair{Key: string([]byte{7, byte(a), byte(b)}), Value: string([]byte{byte(b), byte(a)})})
+		}
+	}
+	return l
+}

@@ -29,7 +29,7 @@ func TestLongest(t *testing.T) {
 // Pairs by chance, and of a subset, may be, and rise.
 func TestPairsMayBe(t *testing.T) {
 	v := sample.Numbers(1)
-	lists := [][]api.Pair{sample.Subset(1<<len(sample.Few()) - 1)}
+	lists := [][]api.Pair{sample.Subset(1<<len(sample.Few()) - 1), sample.Worded(), sample.Many()}
 	for range 100 {
 		lists = append(lists, v.Some(20, 4))
 	}
@@ -91,5 +91,18 @@ func TestTries(t *testing.T) {
 	}
 	if len(names) < 18 {
 		t.Errorf("but %s", strings.Join(names, ", "))
+	}
+}
+
+// Spoil writes over a list's spare room too, and Texts has those of two bytes and more.
+func TestSpoilAndTexts(t *testing.T) {
+	l := append(make([]int, 0, 8), 1, 2, 3)
+	sample.Spoil(l[:1], 7)
+	if !slices.Equal(l[:8], slices.Repeat([]int{7}, 8)) {
+		t.Errorf("a list of %d", l[:8])
+	}
+	got := sample.Texts(api.Trie{sample.Leaf("\x01\x02", "v"), sample.Valued("vv")}, sample.Pairs("a", "bb", "cc", ""))
+	if !slices.Equal(got, []string{"\x01\x02", "vv", "bb", "cc"}) {
+		t.Errorf("the texts are %q", got)
 	}
 }

@@ -1,37 +1,21 @@
 package put
 
 import (
-	"slices"
 	"strings"
 
 	"umbel/api"
+	"umbel/draft"
 	"umbel/nibble"
 )
 
-// draft is the nodes of a trie, the first one first and the others in no order, so that a pair more is some nodes more at the end, not all others moved. A node of nothing is an empty place.
-type draft []api.Node
-
-// open has the nodes of t, or of none an empty place.
-func open(t api.Trie) draft {
-	if len(t) == 0 {
-		return draft{{}}
-	}
-	return slices.Clone(draft(t))
-}
-
-// leaf has the node of a key alone.
-func leaf(rest, value string) api.Node {
-	return api.Node{Kind: api.Leaf, Path: rest, Has: true, Value: value}
-}
-
 // put has the nodes with the value where the nibbles lead.
-func put(d draft, rest, value string) draft {
+func put(d draft.Nodes, rest, value string) draft.Nodes {
 	at := 0
 	for {
 		n := d[at]
 		switch {
-		case n == api.Node{} || n == leaf(rest, n.Value):
-			d[at] = leaf(rest, value)
+		case n == api.Node{} || n == draft.Leaf(rest, n.Value):
+			d[at] = draft.Leaf(rest, value)
 			return d
 		case n.Kind == api.Branch && rest == "":
 			d[at].Has, d[at].Value = true, value
@@ -49,7 +33,7 @@ func put(d draft, rest, value string) draft {
 }
 
 // withChild has the nodes with a child of that nibble, at least an empty place, beneath the Branch at that place.
-func withChild(d draft, at int, half byte) draft {
+func withChild(d draft.Nodes, at int, half byte) draft.Nodes {
 	if d[at].Kids[half] != 0 {
 		return d
 	}
@@ -58,7 +42,7 @@ func withChild(d draft, at int, half byte) draft {
 }
 
 // part has the nodes with a Branch in place of the Leaf or Ext there, beneath as many nibbles of its Path as stay above it. What was there goes beneath the Branch, which has a child or value too few till a key is put there.
-func part(d draft, at, stay int) draft {
+func part(d draft.Nodes, at, stay int) draft.Nodes {
 	n := d[at]
 	above, rest := n.Path[:stay], n.Path[stay:]
 	if above != "" {
@@ -79,21 +63,4 @@ func part(d draft, at, stay int) draft {
 		d = append(d, n)
 	}
 	return d
-}
-
-// lay lays the node at that place, and what is beneath it, behind t, in a trie's order and memory of its own.
-func lay(t api.Trie, d draft, at int) api.Trie {
-	n := d[at]
-	if n == (api.Node{}) {
-		return t
-	}
-	own := len(t)
-	t = append(t, api.Node{Kind: n.Kind, Path: strings.Clone(n.Path), Has: n.Has, Value: strings.Clone(n.Value)})
-	for half, kid := range n.Kids {
-		if kid != 0 {
-			t[own].Kids[half] = len(t)
-			t = lay(t, d, kid)
-		}
-	}
-	return t
 }
